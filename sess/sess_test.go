@@ -1035,7 +1035,7 @@ func TestByChance(t *testing.T) {
 	}
 }
 
-// P21.1: all short lists of steps of a few, one behind the other.
+// P21.1: all lists of four of some steps, one behind the other.
 func TestAllSmall(t *testing.T) {
 	steps := []sess.Step{
 		{Kind: load, Text: "<p>a</p>"},
@@ -1057,8 +1057,9 @@ func TestAllSmall(t *testing.T) {
 			t.Fatal(err)
 		}
 		s, m := session(t, 7), &model{7, d}
-		for ; i > 0; i /= n {
+		for range 4 {
 			step(t, s, m, steps[i%n])
+			i /= n
 		}
 	}
 }
